@@ -1,0 +1,1 @@
+"""Likeholes: nested items with kinded slots."""
