@@ -33,13 +33,7 @@ def ancestors_of(inventory, arrangement, name):
     """Return the names of all ancestors of the item, starting at the root."""
     check_arrangement(inventory, arrangement)
     check_name(inventory, name)
-    parents = parents_by_name(inventory, arrangement)
-    ancestors = []
-    parent = parents[name]
-    while parent != "":
-        ancestors.append(parent)
-        parent = parents[parent]
-    return ancestors[::-1]
+    return chain_above(parents_by_name(inventory, arrangement), name)
 
 
 def descendants_of(inventory, arrangement, name):
@@ -105,3 +99,18 @@ def is_rooted(parents, name):
         if name == "":
             return True
     return False
+
+
+def chain_above(parents, name):
+    """Return the names of all ancestors of an item of an arrangement, starting at the root."""
+    ancestors = []
+    parent = parents[name]
+    while parent != "":
+        ancestors.append(parent)
+        parent = parents[parent]
+    return ancestors[::-1]
+
+
+def is_below(parents, name, other):
+    """Return whether the first item is a descendant of the other one."""
+    return other in chain_above(parents, name)

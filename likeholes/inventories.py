@@ -94,6 +94,17 @@ def is_slot(value):
     return isinstance(owner, str) and isinstance(index, int) and not isinstance(index, bool)
 
 
+def are_ascending_slots(inventory, values):
+    """Return whether the values are slots of a valid inventory in ascending order."""
+    kinds = kinds_by_slot(inventory)
+    return all([is_slot(value) and value in kinds for value in values]) and are_ascending(values)
+
+
+def are_ascending(values):
+    """Return whether each of the values is less than the one behind it."""
+    return all([earlier < later for earlier, later in zip(values, values[1:])])
+
+
 def is_word(value):
     """Return whether the value has the form of a kind, which is also that of a name."""
     if not isinstance(value, str) or not 1 <= len(value) <= MAX_LETTERS:

@@ -6,81 +6,14 @@ import unittest
 
 from likeholes.arrangements import ancestors_of, arrangement_error, descendants_of, slot_of
 from likeholes.errors import InvalidArrangement, UnknownItem
-from likeholes.inventories import list_slots, slot_kind
+from likeholes.inventories import list_slots
+from tests.references import (
+    arrangements, orders, reference_ancestors, reference_arrangement_error, reference_descendants, reference_parents,
+)
+from tests.samples import MIXED, SMALL
 from tests.values import HUGE, INV, chain_inventory, is_same, nested, values_of_every_sort
 
-# Two kinds, several root slots, items without slots and with slots of both kinds.
-MIXED = (
-    ("k", "m"),
-    [("a", "k", ("m", "k")), ("b", "k", ()), ("c", "m", ("k",)), ("d", "m", ()), ("e", "k", ())],
-)
-SMALL = [
-    INV,
-    (("k",), [("a", "k", ())]),
-    (("k", "k"), [("a", "k", ()), ("b", "k", ())]),
-    (("k",), [("a", "k", ("k",)), ("b", "k", ())]),
-    (("k",), [("a", "k", ("m",)), ("b", "m", ("k",)), ("c", "k", ())]),
-    (("k",), [("a", "k", ("k", "k")), ("b", "k", ()), ("c", "k", ())]),
-    (("m",), [("a", "k", ("k", "m")), ("b", "k", ()), ("c", "m", ("k",))]),
-    (("k",), [("a", "k", ("k",)), ("b", "k", ("k",)), ("c", "k", ("k",)), ("d", "k", ())]),
-    # More items than slots, and more slots than items.
-    (("k",), [("a", "k", ("k",)), ("b", "k", ()), ("c", "k", ())]),
-    (("k", "k"), [("a", "k", ("k",)), ("b", "m", ())]),
-    MIXED,
-]
 FUNCTIONS = [slot_of, ancestors_of, descendants_of]
-
-
-def reference_parents(inventory, names):
-    """Return the parent of each placed item, and "" for an item in a root slot."""
-    return {name: slot[0] for slot, name in zip(list_slots(inventory), names)}
-
-
-def reference_error(inventory, value):
-    """Return what point 11 says, by its words."""
-    slots = list_slots(inventory)
-    kinds = {item[0]: item[1] for item in inventory[1]}
-    if type(value) is not list or len(value) != len(slots):
-        return ("arrangement",)
-    for k, slot in enumerate(slots):
-        is_name = type(value[k]) is str and value[k] in kinds
-        if not is_name or kinds[value[k]] != slot_kind(inventory, slot) or value[k] in value[:k]:
-            return ("slot", k)
-    for name in sorted(kinds):
-        if name not in value:
-            return ("missing", name)
-    parents = reference_parents(inventory, value)
-    rooted = {""}
-    for _ in kinds:
-        rooted = rooted | {name for name in kinds if parents[name] in rooted}
-    for name in sorted(kinds):
-        if name not in rooted:
-            return ("cycle", name)
-    return None
-
-
-def reference_ancestors(parents, name):
-    if parents[name] == "":
-        return []
-    return reference_ancestors(parents, parents[name]) + [parents[name]]
-
-
-def reference_descendants(inventory, arrangement, name):
-    found = []
-    for slot, child in zip(list_slots(inventory), arrangement):
-        if slot[0] == name:
-            found += [child] + reference_descendants(inventory, arrangement, child)
-    return found
-
-
-def orders(inventory):
-    """Return the lists with one item for each slot, without regard to kinds."""
-    names = [item[0] for item in inventory[1]]
-    return [list(order) for order in itertools.permutations(names, min(len(names), len(list_slots(inventory))))]
-
-
-def arrangements(inventory):
-    return [order for order in orders(inventory) if reference_error(inventory, order) is None]
 
 
 class ArrangementErrorTest(unittest.TestCase):
@@ -177,21 +110,21 @@ class ArrangementErrorTest(unittest.TestCase):
         for inventory in SMALL:
             for order in orders(inventory):
                 for value in (order, order[:-1], order + order[:1], order[:-1] + order[:1]):
-                    self.check(inventory, value, reference_error(inventory, value))
+                    self.check(inventory, value, reference_arrangement_error(inventory, value))
 
     def test_all_lists_with_repeated_and_unknown_names(self):
         for inventory in SMALL[:7]:
             entries = [item[0] for item in inventory[1]] + ["", "z", None, ["a"]]
             for value in itertools.product(entries, repeat=len(list_slots(inventory))):
-                self.check(inventory, list(value), reference_error(inventory, list(value)))
+                self.check(inventory, list(value), reference_arrangement_error(inventory, list(value)))
 
     def test_values_of_every_sort_in_every_place(self):
         for value in values_of_every_sort():
-            self.check(INV, value, reference_error(INV, value))
+            self.check(INV, value, reference_arrangement_error(INV, value))
             for inventory, good in ((INV, ["a", "b", "c"]), (MIXED, ["a", "c", "d", "b", "e"])):
                 for k in range(len(good)):
                     changed = good[:k] + [value] + good[k + 1:]
-                    self.check(inventory, changed, reference_error(inventory, changed))
+                    self.check(inventory, changed, reference_arrangement_error(inventory, changed))
                     self.check(inventory, tuple(changed), ("arrangement",))
 
     def test_arguments_do_not_change(self):
@@ -228,7 +161,7 @@ class CheckedArgumentsTest(unittest.TestCase):
 
     def test_invalid_arrangements_with_values_of_every_sort(self):
         for value in values_of_every_sort():
-            self.check_raises(reference_error(INV, value), INV, value, value)
+            self.check_raises(reference_arrangement_error(INV, value), INV, value, value)
             if value != "a":
                 self.check_raises(("slot", 0), INV, [value, "b", "c"], value)
 
