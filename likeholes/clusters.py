@@ -12,6 +12,20 @@ def free_kinds(inventory, placed):
     return {name: kind for name, kind in kinds_by_name(inventory).items() if name not in required}
 
 
+def candidates_for(inventory, placed, slot):
+    """Return the names of the free items of the kind of an open slot, in order."""
+    kind = kinds_by_slot(inventory)[slot]
+    free = free_kinds(inventory, placed)
+    return [name for name in free if free[name] == kind]
+
+
+def with_placement(placed, slot, name):
+    """Return the placements and one more."""
+    extended = {key: placed[key] for key in placed}
+    extended[slot] = name
+    return extended
+
+
 def offered_kinds(inventory, placed):
     """Return a dict from "", for the root, and each free item's name to the kinds of the slots it offers."""
     kinds = kinds_by_slot(inventory)

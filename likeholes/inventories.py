@@ -36,11 +36,8 @@ def list_slots(inventory):
 def slot_kind(inventory, slot):
     """Return the kind that the slot accepts."""
     check_inventory(inventory)
-    kinds = kinds_by_slot(inventory)
-    # True and False equal 1 and 0 as keys, and lists cannot be looked up.
-    if not is_slot(slot) or slot not in kinds:
-        raise UnknownSlot("not a slot of the inventory")
-    return kinds[slot]
+    check_slot(inventory, slot)
+    return kinds_by_slot(inventory)[slot]
 
 
 def slot_surplus(inventory):
@@ -61,6 +58,13 @@ def check_inventory(inventory):
         raise InvalidInventory(reason)
 
 
+def check_slot(inventory, slot):
+    """Raise UnknownSlot if the argument is not a slot of a valid inventory."""
+    # True and False equal 1 and 0 as keys, and lists cannot be looked up.
+    if not is_slot(slot) or slot not in kinds_by_slot(inventory):
+        raise UnknownSlot("not a slot of the inventory")
+
+
 def kinds_by_slot(inventory):
     """Return a dict from each slot of a valid inventory, in order, to its kind."""
     roots, items = inventory
@@ -74,6 +78,11 @@ def kinds_by_slot(inventory):
 def kinds_by_name(inventory):
     """Return a dict from each item's name in a valid inventory, in order, to its kind."""
     return {item[0]: item[1] for item in inventory[1]}
+
+
+def shapes_by_name(inventory):
+    """Return a dict from each item's name to its kind and its slots, in which twins are alike."""
+    return {name: (kind, slots) for name, kind, slots in inventory[1]}
 
 
 def distinct_kinds(inventory):

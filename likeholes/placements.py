@@ -2,7 +2,7 @@
 
 from likeholes.arrangements import arrangement_error
 from likeholes.certificates import first_certificate, is_certificate
-from likeholes.clusters import free_kinds, reached_kinds
+from likeholes.clusters import candidates_for, reached_kinds, with_placement
 from likeholes.errors import InvalidPlacements
 from likeholes.inventories import are_ascending_slots, check_inventory, kinds_by_name, kinds_by_slot
 
@@ -73,13 +73,10 @@ def completed(inventory, placed):
 
 def with_first_fitting(inventory, placed, slot):
     """Return the placements with the first free item in the open slot that leaves no valid certificate."""
-    kind = kinds_by_slot(inventory)[slot]
-    free = free_kinds(inventory, placed)
-    candidates = [name for name in free if free[name] == kind]
-    extended = {key: placed[key] for key in placed}
+    extended = placed
     # One of them fits, because an arrangement exists where no certificate is valid.
-    for candidate in candidates:
-        extended[slot] = candidate
+    for name in candidates_for(inventory, placed, slot):
+        extended = with_placement(placed, slot, name)
         if first_certificate(inventory, extended) is None:
             break
     return extended

@@ -1,6 +1,7 @@
 """What the document says of arrangements, moves and placements, written once more from its words."""
 
 import itertools
+import math
 
 from likeholes.inventories import list_slots, slot_kind
 
@@ -133,6 +134,41 @@ def moves_that_apply(inventory, arrangement):
     return [move for move in sorted(swaps + segments) if reference_move_error(inventory, arrangement, move) is None]
 
 
+def reference_reverse(move):
+    """Return the form that point 19 writes."""
+    if move[0] == "swap":
+        return move
+    _, x, v, y, w = move
+    return ("segments", y, x, x, w) if y == v else ("segments", y, v, x, w)
+
+
+def reference_first_move(inventory, arrangement, loose):
+    """Return the least move with these names, from quadruples that are tried in order."""
+    kinds = {item[0]: item[1] for item in inventory[1]}
+    for x, v in itertools.permutations(loose, 2):
+        if reference_move_error(inventory, arrangement, ("swap", x, v)) is None or (
+            not is_reference_below(inventory, arrangement, v, x)
+        ):
+            continue
+        for y in loose:
+            if kinds[y] == kinds[x] and (y == v or is_reference_below(inventory, arrangement, y, v)):
+                for w in loose:
+                    if reference_move_error(inventory, arrangement, ("segments", x, v, y, w)) is None:
+                        return ("segments", x, v, y, w)
+    for a, b in itertools.permutations(loose, 2):
+        if reference_move_error(inventory, arrangement, ("swap", a, b)) is None:
+            return ("swap", a, b)
+    return None
+
+
+def is_reference_below(inventory, arrangement, name, other):
+    while name != "":
+        name = list_slots(inventory)[arrangement.index(name)][0]
+        if name == other:
+            return True
+    return False
+
+
 def owners_of(required, name):
     return [slot[0] for slot, other in required if other == name]
 
@@ -245,3 +281,62 @@ def satisfying(inventory, required, all_arrangements):
         arrangement for arrangement in all_arrangements
         if all(arrangement[slots.index(slot)] == name for slot, name in required)
     ]
+
+
+def reference_count(inventory, required):
+    """Return what the formula of point 30 says of required placements that some arrangement satisfies."""
+    placed = [name for _, name in required]
+    free = {name: kind for name, kind in kinds_of_items(inventory).items() if name not in placed}
+    kinds = sorted(set(free.values()))
+    numbers = {kind: list(free.values()).count(kind) for kind in kinds}
+    slots = dict.fromkeys(itertools.product(kinds, repeat=2), 0)
+    for name, kind in free.items():
+        for slot in open_slots_of_cluster(inventory, required, name):
+            slots[kind, slot_kind(inventory, slot)] += 1
+    rows = [[numbers[one] * (one == other) - slots[one, other] for other in kinds] for one in kinds]
+    factors = [math.factorial(number - 1) for number in numbers.values()]
+    return math.prod(factors) * reference_determinant(rows)
+
+
+def reference_determinant(rows):
+    """Return the determinant, as the sum over all permutations of the columns."""
+    total = 0
+    for columns in itertools.permutations(range(len(rows))):
+        inversions = sum(one > other for one, other in itertools.combinations(columns, 2))
+        total += (-1) ** inversions * math.prod(rows[k][column] for k, column in enumerate(columns))
+    return total
+
+
+def twin_classes(inventory):
+    """Return the lists of names of items that have the same kind and the same slots in the same order."""
+    names = {}
+    for name, kind, slots in inventory[1]:
+        names.setdefault((kind, slots), []).append(name)
+    return list(names.values())
+
+
+def twin_permutations(inventory):
+    """Return all dicts that map each item to itself or to a twin, no two to the same."""
+    classes = twin_classes(inventory)
+    found = []
+    for orders_of_classes in itertools.product(*[itertools.permutations(names) for names in classes]):
+        pairs = [zip(names, order) for names, order in zip(classes, orders_of_classes)]
+        found.append(dict(itertools.chain(*pairs)))
+    return found
+
+
+def with_new_names(inventory, arrangement, new_names):
+    """Return the arrangement in which both the items and the owners of the slots have new names."""
+    content = {
+        (new_names.get(owner, owner), k): new_names[name]
+        for (owner, k), name in zip(list_slots(inventory), arrangement)
+    }
+    return [content[slot] for slot in list_slots(inventory)]
+
+
+def nesting_of(inventory, arrangement, owner=""):
+    """Return how kinds and slots are nested below the owner, in which names do not matter."""
+    shapes = {name: (kind, slots) for name, kind, slots in inventory[1]}
+    content = dict(zip(list_slots(inventory), arrangement))
+    below = [name for slot, name in content.items() if slot[0] == owner]
+    return tuple(shapes[name] + (nesting_of(inventory, arrangement, name),) for name in below)

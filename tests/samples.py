@@ -1,5 +1,6 @@
 """Inventories, small and large, and arrangements of them, that the tests share."""
 
+import itertools
 import random
 
 from likeholes.inventories import list_slots, slot_kind
@@ -48,6 +49,40 @@ LARGER = [
     (("m",), [("a", "m", ("k",)), ("b", "k", ("n",)), ("c", "n", ("m",)), ("d", "m", ("k", "n")), ("e", "k", ()),
               ("f", "n", ())]),
     TIGHT,
+]
+# Root slots, items that lead to further kinds, and a kind that only hangs from itself.
+WIDE = (
+    ("k", "m"),
+    [("a", "k", ("m",)), ("b", "m", ("n",)), ("c", "m", ("k",)), ("d", "n", ()), ("e", "k", ()), ("f", "p", ("p",))],
+)
+# The kind m can be reached only by an item of kind k, and n only by one of kind m.
+STEPS = (("k", "k"), [("a", "k", ()), ("b", "k", ("m",)), ("c", "m", ("n",)), ("d", "n", ())])
+# Items with twins: with no, one and two slots, of several kinds, and items that are alike but no twins.
+TWINS = [
+    (("k", "k"), [("a", "k", ("k", "k")), ("b", "k", ("k", "k")), ("c", "k", ()), ("d", "k", ()), ("e", "k", ()),
+                  ("f", "k", ())]),
+    (("m",), [("a", "k", ("m",)), ("b", "k", ("m",)), ("c", "m", ("k",)), ("d", "m", ("k",)), ("e", "m", ())]),
+    (("k",), [("a", "k", ("k", "m")), ("b", "k", ("m", "k")), ("c", "m", ()), ("d", "m", ()), ("e", "k", ())]),
+    (("k", "m"), [("a", "k", ("m",)), ("b", "k", ("m",)), ("c", "k", ("k",)), ("d", "m", ("k",)), ("e", "m", ()),
+                  ("f", "m", ())]),
+    (("k", "k", "k"), [("a", "k", ("m", "m")), ("b", "k", ("m", "m")), ("c", "k", ()), ("d", "m", ()), ("e", "m", ()),
+                       ("f", "m", ()), ("g", "m", ())]),
+]
+# Six kinds: on one path, side by side, and with two items of some of them.
+SIX_KINDS = [
+    (("k",), [("a", "k", ("m",)), ("b", "m", ("n",)), ("c", "n", ("p",)), ("d", "p", ("q",)), ("e", "q", ("r",)),
+              ("f", "r", ())]),
+    (("k", "m", "n"), [("a", "k", ("p", "q")), ("b", "m", ()), ("c", "n", ("r",)), ("d", "p", ()), ("e", "q", ()),
+                       ("f", "r", ())]),
+    (("k", "m"), [("a", "k", ("k", "n")), ("b", "k", ("m", "p")), ("c", "m", ("q",)), ("d", "m", ("r",)),
+                  ("e", "n", ()), ("f", "p", ()), ("g", "q", ()), ("h", "r", ())]),
+]
+# No arrangement: a kind without items, a kind without slots, too few and too many slots.
+WITHOUT = [
+    (("k", "m"), [("a", "k", ())]),
+    (("k",), [("a", "k", ()), ("b", "m", ())]),
+    (("k",), [("a", "k", ("m",)), ("b", "k", ())]),
+    (("k", "k"), [("a", "k", ()), ("b", "k", ("k",))]),
 ]
 
 
@@ -120,3 +155,35 @@ def random_move(chance, inventory, arrangement):
         if reference_move_error(inventory, arrangement, move) is None:
             return move
     return None
+
+
+def all_placements(inventory):
+    """Go through all required placements of the inventory."""
+    slots = list_slots(inventory)
+    names = [item[0] for item in inventory[1]]
+    for chosen in itertools.product([None] + names, repeat=len(slots)):
+        yield [(slot, name) for slot, name in zip(slots, chosen) if name is not None]
+
+
+def some_placements(chance, inventory, count):
+    """Return all required placements of the inventory, or so many of them by chance."""
+    slots = list_slots(inventory)
+    names = [item[0] for item in inventory[1]]
+    if (len(names) + 1) ** len(slots) <= count:
+        return list(all_placements(inventory))
+    found = []
+    for _ in range(count):
+        rate = chance.choice((0.1, 0.3, 0.6, 1))
+        found.append([(slot, chance.choice(names)) for slot in slots if chance.random() < rate])
+    return found
+
+
+def hopeful_placements(chance, inventory, arrangement):
+    """Return some placements of an arrangement, of which one may be damaged."""
+    slots = list_slots(inventory)
+    chosen = sorted(chance.sample(range(len(slots)), chance.randint(0, len(slots))))
+    required = [(slots[k], arrangement[k]) for k in chosen]
+    if required and chance.random() < 0.5:
+        k = chance.randrange(len(required))
+        required[k] = (required[k][0], chance.choice(arrangement))
+    return required

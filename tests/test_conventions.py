@@ -1,4 +1,4 @@
-"""Tests of point 2 for moves, paths and placements: errors and their order, arguments, results and time."""
+"""Tests of point 2: errors and their order, arguments, results and time."""
 
 import copy
 import os
@@ -9,10 +9,15 @@ import time
 import unittest
 
 from likeholes import errors
-from likeholes.inventories import inventory_error, list_slots
+from likeholes.arrangements import ancestors_of, arrangement_error, descendants_of, slot_of
+from likeholes.counting import count_arrangements, count_up_to_twins, placement_share, possible_items
+from likeholes.forests import Forest
+from likeholes.inventories import inventory_error, list_slots, slot_kind, slot_surplus
 from likeholes.moves import apply_moves, first_move, has_even_swaps, move_error, moves_error, reverse_moves
 from likeholes.paths import check_path, find_path
 from likeholes.placements import check_answer, find_arrangement, reachable_kinds
+from likeholes.ranking import arrangement_at, index_of
+from likeholes.twins import are_equivalent, splits_evenly
 from tests.references import arrangements, reference_arrangement_error
 from tests.samples import LARGER, MIXED, SPLIT, large_inventories, random_arrangement, random_walk
 from tests.values import HUGE, INV, chain_inventory, is_same, nested, values_of_every_sort
@@ -22,16 +27,38 @@ GARBAGE = [None, True, HUGE, "a", ["a"], ("", 0), [[], ()], nested(True, 100)]
 
 
 def calls_with(inventory, first, second, value, option):
-    """Return a call of each function; those on one arrangement come before those on two, and those on none."""
-    return calls_on_one(inventory, first, value, option) + calls_on_two(inventory, first, second, value, option) + [
+    """Return a call of each function that takes an inventory."""
+    calls = calls_on_one(inventory, first, value, option) + calls_on_two(inventory, first, second, value, option)
+    return calls + calls_with_placements(inventory, value, option) + [
+        lambda: list_slots(inventory),
+        lambda: slot_kind(inventory, value),
+        lambda: slot_surplus(inventory),
+        lambda: arrangement_error(inventory, value),
+        lambda: count_up_to_twins(inventory),
+        lambda: placement_share(inventory, value, value),
+        lambda: possible_items(inventory, value),
+        lambda: splits_evenly(inventory),
+    ]
+
+
+def calls_with_placements(inventory, value, option):
+    """Return a call of each function that takes required placements, but no arrangement."""
+    return [
         lambda: reachable_kinds(inventory, required=option),
         lambda: find_arrangement(inventory, required=option),
         lambda: check_answer(inventory, value, required=option),
+        lambda: count_arrangements(inventory, required=option),
+        lambda: arrangement_at(inventory, value, required=option),
     ]
 
 
 def calls_on_one(inventory, arrangement, value, option):
     return [
+        lambda: slot_of(inventory, arrangement, value),
+        lambda: ancestors_of(inventory, arrangement, value),
+        lambda: descendants_of(inventory, arrangement, value),
+        lambda: index_of(inventory, arrangement, required=option),
+        lambda: Forest(inventory, arrangement, pinned=option),
         lambda: move_error(inventory, arrangement, value),
         lambda: moves_error(inventory, arrangement, value),
         lambda: apply_moves(inventory, arrangement, value),
@@ -45,6 +72,7 @@ def calls_on_two(inventory, first, second, value, option):
         lambda: has_even_swaps(inventory, first, second),
         lambda: find_path(inventory, first, second),
         lambda: check_path(inventory, first, second, value, pinned=option),
+        lambda: are_equivalent(inventory, first, second),
     ]
 
 
@@ -78,7 +106,45 @@ def good_calls(inventory, first, second, moves):
         (check_answer, [inventory, ("impossible", ("cycle", list(first))), {"required": required}]),
         (check_answer, [inventory, ("impossible", ("unreachable", ["k", ["m"]])), {"required": required}]),
     ]
+    return calls + good_calls_of_numbers(inventory, first, second, required) + good_calls_of_items(inventory, first)
+
+
+def good_calls_of_numbers(inventory, first, second, required):
+    """Return such pairs for the functions of counting, ranking and twins."""
+    slots = list_slots(inventory)
+    calls = [
+        (count_arrangements, [inventory, {"required": []}]),
+        (count_arrangements, [inventory, {"required": required}]),
+        (count_arrangements, [inventory, {"required": [(slot, first[0]) for slot in slots[:2]]}]),
+        (count_up_to_twins, [inventory]),
+        (splits_evenly, [inventory]),
+        (are_equivalent, [inventory, first, second]),
+        (are_equivalent, [inventory, first, list(first)]),
+        (index_of, [inventory, first, {"required": []}]),
+        (index_of, [inventory, first, {"required": required}]),
+        (placement_share, [inventory, slots[-1], first[-1]]),
+        (possible_items, [inventory, slots[-1]]),
+    ]
+    for placements in ([], required):
+        count = count_arrangements(inventory, required=placements)
+        for index in sorted({0, count // 3, count - 1}):
+            calls.append((arrangement_at, [inventory, index, {"required": placements}]))
     return calls
+
+
+def good_calls_of_items(inventory, first):
+    """Return such pairs for the functions of inventories and arrangements."""
+    return [
+        (inventory_error, [inventory]),
+        (list_slots, [inventory]),
+        (slot_kind, [inventory, list_slots(inventory)[-1]]),
+        (slot_surplus, [inventory]),
+        (slot_surplus, [(inventory[0][:1] * 3, inventory[1])]),
+        (arrangement_error, [inventory, first]),
+        (slot_of, [inventory, first, first[-1]]),
+        (ancestors_of, [inventory, first, first[-1]]),
+        (descendants_of, [inventory, first, first[0]]),
+    ]
 
 
 def called(function, arguments):
@@ -168,6 +234,8 @@ class ErrorsTest(unittest.TestCase):
         for pinned in bad:
             for pins in (pinned, tuple(pinned)) if isinstance(pinned, list) else (pinned,):
                 self.check_raises("InvalidPins", lambda: first_move(MIXED, first, pinned=pins))
+                self.check_raises("InvalidPins", lambda: Forest(MIXED, first, pinned=pins))
+                self.check_raises("InvalidArrangement", lambda: Forest(MIXED, second[:-1], pinned=pins))
                 for other in GARBAGE + [("moves", []), ("pinned", ("", 0))]:
                     self.check_raises("InvalidPins", lambda: check_path(MIXED, first, second, other, pinned=pins))
                     self.check_raises("InvalidArrangement", lambda: first_move(MIXED, second[:-1], pinned=pins))
@@ -180,6 +248,7 @@ class ErrorsTest(unittest.TestCase):
         slots = list_slots(MIXED)
         for pinned in ([], (), slots, tuple(slots), slots[1::2], [("a", 1)], (("", 0), ("c", 0))):
             first_move(MIXED, first, pinned=pinned)
+            self.assertEqual(Forest(MIXED, first, pinned=pinned).pins(), list(pinned))
             self.assertIsNone(check_path(MIXED, first, first, ("moves", []), pinned=pinned))
 
     def test_moves_come_after_the_arrangement(self):
@@ -197,8 +266,48 @@ class ErrorsTest(unittest.TestCase):
         for required in values_of_every_sort():
             if required not in ((), []):
                 for value in GARBAGE:
-                    for call in calls_with(INV, ["a", "b", "c"], ["a", "b", "c"], value, required)[-3:]:
+                    for call in calls_with_placements(INV, value, required):
                         self.check_raises("InvalidPlacements", call)
+                self.check_raises("InvalidPlacements", lambda: index_of(INV, ["a", "b", "c"], required=required))
+
+    def test_slots_come_after_the_inventory_and_names_after_the_slots(self):
+        for value in values_of_every_sort() + [("", True), ("a", False), ("a", 1), ["a", 0]]:
+            if not is_same(value, ("a", 0)) and not is_same(value, ("", 0)):
+                for name in GARBAGE:
+                    self.check_raises("UnknownSlot", lambda: placement_share(INV, value, name))
+                self.check_raises("UnknownSlot", lambda: slot_kind(INV, value))
+                self.check_raises("UnknownSlot", lambda: possible_items(INV, value))
+            if value != "a":
+                self.check_raises("UnknownItem", lambda: placement_share(INV, ("a", 0), value))
+                for function in (slot_of, ancestors_of, descendants_of):
+                    self.check_raises("UnknownItem", lambda: function(INV, ["a", "b", "c"], value))
+
+    def test_indices_and_placements_that_are_not_met(self):
+        for value in values_of_every_sort() + [2, -1, -2]:
+            if not is_same(value, 0) and not is_same(value, 1):
+                self.check_raises("InvalidIndex", lambda: arrangement_at(INV, value))
+        for required in ([(("", 0), "b")], [(("", 0), "a"), (("a", 0), "a")], ((("b", 0), "a"),)):
+            self.check_raises("PlacementNotMet", lambda: index_of(INV, ["a", "b", "c"], required=required))
+
+    def test_methods_of_a_forest(self):
+        forest = Forest(INV, ["a", "b", "c"], pinned=[("", 0)])
+        there, back = ["b", "c", "a"], ("segments", "b", "a", "a", "c")
+        for value in values_of_every_sort():
+            self.check_raises("InvalidMove", lambda: forest.apply(value), ("move",))
+            reason = reference_arrangement_error(INV, value)
+            self.check_raises("InvalidArrangement", lambda: forest.go_to(value), reason)
+            if not is_same(value, ("a", 0)) and not is_same(value, ("", 0)):
+                self.check_raises("UnknownSlot", lambda: forest.pin(value))
+                self.check_raises("UnknownSlot", lambda: forest.unpin(value))
+        self.check_raises("InvalidMove", lambda: forest.apply(back), ("position",))
+        self.check_raises("PinnedSlot", lambda: forest.apply(("segments", "a", "b", "b", "c")))
+        self.check_raises("PinnedSlot", lambda: forest.go_to(there))
+        self.check_raises("NotPinned", lambda: forest.unpin(("a", 0)))
+        self.check_raises("NothingToUndo", forest.undo)
+        forest.unpin(("", 0))
+        forest.go_to(there)
+        forest.pin(("b", 0))
+        self.check_raises("PinnedSlot", forest.undo)
 
 
 class ArgumentsAndResultsTest(unittest.TestCase):
@@ -247,7 +356,7 @@ class ArgumentsAndResultsTest(unittest.TestCase):
     def test_predicates(self):
         for inventory, first, second, moves in samples():
             for function, arguments in good_calls(inventory, first, second, moves):
-                if function in (has_even_swaps, check_answer):
+                if function in (has_even_swaps, check_answer, are_equivalent, splits_evenly):
                     self.assertIn(called(function, arguments), (True, False))
                     self.assertIs(type(called(function, arguments)), bool)
 
@@ -335,6 +444,44 @@ class TimeTest(unittest.TestCase):
                 self.check_quick(function, [wide, {"required": required}])
             self.check_quick(check_answer, [wide, ("impossible", ("cycle", names)), {"required": required}])
             self.check_quick(check_answer, [wide, ("impossible", ("unreachable", ["k"])), {"required": required}])
+
+    def test_shares_of_every_slot_and_name(self):
+        for inventory in large_inventories()[::4]:
+            for slot in list_slots(inventory):
+                self.check_quick(possible_items, [inventory, slot])
+                for item in inventory[1]:
+                    self.check_quick(placement_share, [inventory, slot, item[0]])
+
+    def test_ranking(self):
+        chance = random.Random(2)
+        for inventory, first, _, _ in samples():
+            placements = list(zip(list_slots(inventory), first))
+            for required in ([], placements[::4]):
+                count = count_arrangements(inventory, required=required)
+                for index in sorted({0, count - 1, count // 2, chance.randrange(count)}):
+                    self.check_quick(arrangement_at, [inventory, index, {"required": required}])
+                    found = arrangement_at(inventory, index, required=required)
+                    self.check_quick(index_of, [inventory, found, {"required": required}])
+
+    def test_numbers_of_inventories_with_many_slots(self):
+        wide = (("k",) * 4, [(name, "k", ("k",) * 4) for name in "abcdefghijklmnopqrstuvwx"])
+        required = [(slot, "abcdefghijklmnopqrstuvwx"[k % 24]) for k, slot in enumerate(list_slots(wide))]
+        for placements in ([], required[:40], required):
+            self.check_quick(count_arrangements, [wide, {"required": placements}])
+            self.assertEqual(count_arrangements(wide, required=placements), 0)
+        self.check_quick(possible_items, [wide, ("x", 3)])
+        self.check_quick(placement_share, [wide, ("x", 3), "a"])
+
+    def test_forests(self):
+        for inventory, first, second, moves in samples():
+            self.check_quick(Forest, [inventory, first, {"pinned": list_slots(inventory)}])
+            forest = Forest(inventory, first)
+            for method in [forest.next_move] + [forest.undo] * len(forest.go_to(second)):
+                self.check_quick(lambda told: told(), [method])
+            for move in moves:
+                self.check_quick(forest.apply, [move])
+            self.check_quick(forest.go_to, [first])
+            self.assertEqual(forest, Forest(inventory, first))
 
     def test_arrangements_exist_for_the_samples(self):
         for inventory in LARGER:

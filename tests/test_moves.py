@@ -10,7 +10,7 @@ from likeholes.moves import (
 )
 from tests.references import (
     arrangements, moves_that_apply, reference_after, reference_after_all, reference_arrangement_error,
-    reference_move_error,
+    reference_first_move, reference_move_error, reference_reverse,
 )
 from tests.samples import LARGER, MIXED, SMALL, large_inventories, random_arrangement, random_walk
 from tests.values import HUGE, INV, chain_inventory, is_same, nested, values_of_every_sort
@@ -298,14 +298,6 @@ def reference_moves_error(inventory, arrangement, value):
     return None
 
 
-def reference_reverse(move):
-    """Return the form that point 19 writes."""
-    if move[0] == "swap":
-        return move
-    _, x, v, y, w = move
-    return ("segments", y, x, x, w) if y == v else ("segments", y, v, x, w)
-
-
 class HasEvenSwapsTest(unittest.TestCase):
 
     def test_example(self):
@@ -410,33 +402,6 @@ class FirstMoveTest(unittest.TestCase):
                 loose = sorted(name for slot, name in zip(slots, arrangement) if slot not in pinned)
                 found = first_move(inventory, arrangement, pinned=pinned)
                 self.assertTrue(is_same(found, reference_first_move(inventory, arrangement, loose)))
-
-
-def reference_first_move(inventory, arrangement, loose):
-    """Return the least move with these names, from quadruples that are tried in order."""
-    kinds = {item[0]: item[1] for item in inventory[1]}
-    for x, v in itertools.permutations(loose, 2):
-        if reference_move_error(inventory, arrangement, ("swap", x, v)) is None or (
-            not is_reference_below(inventory, arrangement, v, x)
-        ):
-            continue
-        for y in loose:
-            if kinds[y] == kinds[x] and (y == v or is_reference_below(inventory, arrangement, y, v)):
-                for w in loose:
-                    if reference_move_error(inventory, arrangement, ("segments", x, v, y, w)) is None:
-                        return ("segments", x, v, y, w)
-    for a, b in itertools.permutations(loose, 2):
-        if reference_move_error(inventory, arrangement, ("swap", a, b)) is None:
-            return ("swap", a, b)
-    return None
-
-
-def is_reference_below(inventory, arrangement, name, other):
-    while name != "":
-        name = list_slots(inventory)[arrangement.index(name)][0]
-        if name == other:
-            return True
-    return False
 
 
 if __name__ == "__main__":

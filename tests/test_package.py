@@ -10,6 +10,7 @@ import unittest
 
 import likeholes
 from likeholes import moves
+from likeholes.forests import Forest
 
 FOLDER = os.path.dirname(likeholes.__file__)
 ALLOWED_MODULES = ("heapq", "math", "itertools", "collections")
@@ -60,6 +61,34 @@ INTERFACE = {
         "find_arrangement": ["inventory", "*required"],
         "check_answer": ["inventory", "value", "*required"],
     },
+    "counting": {
+        "count_arrangements": ["inventory", "*required"],
+        "count_up_to_twins": ["inventory"],
+        "placement_share": ["inventory", "slot", "name"],
+        "possible_items": ["inventory", "slot"],
+    },
+    "ranking": {
+        "arrangement_at": ["inventory", "index", "*required"],
+        "index_of": ["inventory", "arrangement", "*required"],
+    },
+    "twins": {
+        "are_equivalent": ["inventory", "first", "second"],
+        "splits_evenly": ["inventory"],
+    },
+}
+FOREST = {
+    "__init__": ["self", "inventory", "arrangement", "*pinned"],
+    "__eq__": ["self", "other"],
+    "__len__": ["self"],
+    "current": ["self"],
+    "pins": ["self"],
+    "history": ["self"],
+    "apply": ["self", "move"],
+    "undo": ["self"],
+    "pin": ["self", "slot"],
+    "unpin": ["self", "slot"],
+    "go_to": ["self", "target"],
+    "next_move": ["self"],
 }
 
 
@@ -88,19 +117,32 @@ class InterfaceTest(unittest.TestCase):
             for name in functions:
                 self.assertEqual(defined.count(name), 1, name)
 
+    def check_parameters(self, function, parameters):
+        found = inspect.signature(function).parameters
+        self.assertEqual(list(found), [parameter.lstrip("*") for parameter in parameters], function)
+        for parameter, told in zip(found.values(), parameters):
+            if told.startswith("*"):
+                self.assertIs(parameter.kind, inspect.Parameter.KEYWORD_ONLY)
+                self.assertEqual(parameter.default, ())
+            else:
+                self.assertIs(parameter.kind, inspect.Parameter.POSITIONAL_OR_KEYWORD)
+                self.assertIs(parameter.default, inspect.Parameter.empty)
+
     def test_parameters(self):
         for module, functions in INTERFACE.items():
             loaded = importlib.import_module("likeholes." + module)
             for name, parameters in functions.items():
-                found = inspect.signature(getattr(loaded, name)).parameters
-                self.assertEqual(list(found), [parameter.lstrip("*") for parameter in parameters], name)
-                for parameter, told in zip(found.values(), parameters):
-                    if told.startswith("*"):
-                        self.assertIs(parameter.kind, inspect.Parameter.KEYWORD_ONLY)
-                        self.assertEqual(parameter.default, ())
-                    else:
-                        self.assertIs(parameter.kind, inspect.Parameter.POSITIONAL_OR_KEYWORD)
-                        self.assertIs(parameter.default, inspect.Parameter.empty)
+                self.check_parameters(getattr(loaded, name), parameters)
+
+    def test_methods_are_defined_in_the_class_itself(self):
+        tree = ast.parse(package_files()["forests.py"])
+        classes = [node for node in tree.body if isinstance(node, ast.ClassDef)]
+        self.assertEqual([node.name for node in classes], ["Forest"])
+        defined = [node.name for node in classes[0].body if isinstance(node, ast.FunctionDef)]
+        self.assertEqual([name for name in defined if name.startswith("__") or not name.startswith("_")], list(FOREST))
+        for name, parameters in FOREST.items():
+            self.check_parameters(vars(Forest)[name], parameters)
+        self.assertEqual(Forest.__bases__, (object,))
 
     def test_limit_of_move_lists(self):
         self.assertIs(type(moves.MAX_MOVES), int)
@@ -176,6 +218,8 @@ class LanguageTest(unittest.TestCase):
         for name, tree in self.trees():
             for node in ast.walk(tree):
                 self.assertNotIsInstance(node, BARRED_NODES, name)
+                # Where a class has __eq__, functions like any and sum take lists.
+                self.assertNotIsInstance(node, ast.GeneratorExp, name)
                 if isinstance(node, ast.Compare) and any(isinstance(sign, (ast.Is, ast.IsNot)) for sign in node.ops):
                     self.assertIsInstance(node.comparators[0], ast.Constant, name)
                     self.assertIn(node.comparators[0].value, (None, True, False), name)
@@ -184,7 +228,7 @@ class LanguageTest(unittest.TestCase):
 
     def test_files_do_not_import_from_each_other(self):
         needed = {
-            name[:-3]: {node.module.split(".")[1] for node in ast.walk(tree) if isinstance(node, ast.ImportFrom)}
+            name[:-3]: {node.module.partition(".")[2] for node in ast.walk(tree) if isinstance(node, ast.ImportFrom)}
             for name, tree in self.trees()
         }
         while needed:

@@ -1,6 +1,5 @@
 """Tests of likeholes/placements.py: points 25 to 29, with point 3."""
 
-import itertools
 import random
 import unittest
 
@@ -11,49 +10,13 @@ from tests.references import (
     arrangements, candidate_certificates, expected_certificate, is_valid_certificate, reference_arrangement_error,
     reference_reachable, satisfying,
 )
-from tests.samples import CUT_OFF, LARGER, MIXED, SMALL, SPLIT, large_inventories, random_arrangement
+from tests.samples import (
+    CUT_OFF, LARGER, MIXED, SMALL, SPLIT, STEPS, WIDE, hopeful_placements, large_inventories, random_arrangement,
+    some_placements,
+)
 from tests.values import HUGE, INV, chain_inventory, is_same, nested, values_of_every_sort
 
-# Root slots, items that lead to further kinds, and a kind that only hangs from itself.
-WIDE = (
-    ("k", "m"),
-    [("a", "k", ("m",)), ("b", "m", ("n",)), ("c", "m", ("k",)), ("d", "n", ()), ("e", "k", ()), ("f", "p", ("p",))],
-)
-# The kind m can be reached only by an item of kind k, and n only by one of kind m.
-STEPS = (("k", "k"), [("a", "k", ()), ("b", "k", ("m",)), ("c", "m", ("n",)), ("d", "n", ())])
 ALL = SMALL + CUT_OFF + LARGER + [WIDE, STEPS]
-
-
-def all_placements(inventory):
-    """Go through all required placements of the inventory."""
-    slots = list_slots(inventory)
-    names = [item[0] for item in inventory[1]]
-    for chosen in itertools.product([None] + names, repeat=len(slots)):
-        yield [(slot, name) for slot, name in zip(slots, chosen) if name is not None]
-
-
-def some_placements(chance, inventory, count):
-    """Return all required placements of the inventory, or so many of them by chance."""
-    slots = list_slots(inventory)
-    names = [item[0] for item in inventory[1]]
-    if (len(names) + 1) ** len(slots) <= count:
-        return list(all_placements(inventory))
-    found = []
-    for _ in range(count):
-        rate = chance.choice((0.1, 0.3, 0.6, 1))
-        found.append([(slot, chance.choice(names)) for slot in slots if chance.random() < rate])
-    return found
-
-
-def hopeful_placements(chance, inventory, arrangement):
-    """Return some placements of an arrangement, of which one may be damaged."""
-    slots = list_slots(inventory)
-    chosen = sorted(chance.sample(range(len(slots)), chance.randint(0, len(slots))))
-    required = [(slots[k], arrangement[k]) for k in chosen]
-    if required and chance.random() < 0.5:
-        k = chance.randrange(len(required))
-        required[k] = (required[k][0], chance.choice(arrangement))
-    return required
 
 
 class ReachableKindsTest(unittest.TestCase):
